@@ -1,0 +1,35 @@
+// Package clone copies values of api, so that results share no memory with arguments.
+package clone
+
+import (
+	"slices"
+
+	"tablefinder/api"
+)
+
+// Each returns a list with a copy of each element.
+func Each[T any](l []T, one func(T) T) []T {
+	if len(l) == 0 {
+		return nil
+	}
+	c := make([]T, len(l))
+	for i, x := range l {
+		c[i] = one(x)
+	}
+	return c
+}
+
+// List copies a list whose elements share no memory.
+func List[T any](l []T) []T { return slices.Clip(slices.Clone(l)) }
+
+// Column copies a column.
+func Column(c api.Column) api.Column {
+	c.Cells = List(c.Cells)
+	return c
+}
+
+// Table copies a table.
+func Table(t api.Table) api.Table {
+	t.Columns = Each(t.Columns, Column)
+	return t
+}
