@@ -33,3 +33,9 @@ func Table(t api.Table) api.Table {
 	t.Columns = Each(t.Columns, Column)
 	return t
 }
+
+// Fraction copies a fraction.
+func Fraction(f api.Fraction) api.Fraction {
+	f.Num.Words, f.Den.Words = List(f.Num.Words), List(f.Den.Words)
+	return f
+}
