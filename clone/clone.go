@@ -39,3 +39,16 @@ func Fraction(f api.Fraction) api.Fraction {
 	f.Num.Words, f.Den.Words = List(f.Num.Words), List(f.Den.Words)
 	return f
 }
+
+// Index copies an index.
+func Index(x api.Index) api.Index {
+	return api.Index{Entries: List(x.Entries), Values: List(x.Values), Lists: Each(x.Lists, List[int])}
+}
+
+// Segments copies segments.
+func Segments(x api.Segments) api.Segments {
+	return api.Segments{
+		List: Each(x.List, func(s api.Segment) api.Segment { return api.Segment{Tables: List(s.Tables), Index: Index(s.Index)} }),
+		Gone: Each(x.Gone, List[int]),
+	}
+}
