@@ -52,3 +52,9 @@ func Segments(x api.Segments) api.Segments {
 		Gone: Each(x.Gone, List[int]),
 	}
 }
+
+// Collection copies a collection.
+func Collection(c api.Collection) api.Collection {
+	c.Items = Each(c.Items, func(i api.Item) api.Item { return api.Item{Table: Table(i.Table), From: i.From, Until: i.Until} })
+	return c
+}
