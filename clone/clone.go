@@ -58,3 +58,45 @@ func Collection(c api.Collection) api.Collection {
 	c.Items = Each(c.Items, func(i api.Item) api.Item { return api.Item{Table: Table(i.Table), From: i.From, Until: i.Until} })
 	return c
 }
+
+// Hit copies a hit.
+func Hit(h api.Hit) api.Hit {
+	h.Score = Fraction(h.Score)
+	return h
+}
+
+func match(m api.Match) api.Match {
+	m.Align, m.Score = List(m.Align), Fraction(m.Score)
+	return m
+}
+
+func correlated(c api.Correlated) api.Correlated {
+	c.Score = Fraction(c.Score)
+	return c
+}
+
+func path(p api.Path) api.Path {
+	p.Steps = List(p.Steps)
+	return p
+}
+
+func route(r api.Route) api.Route {
+	r.Path, r.Report.Unused = path(r.Path), List(r.Report.Unused)
+	return r
+}
+
+func found(f api.Found) api.Found {
+	f.View = api.View{Path: path(f.View.Path), Filters: List(f.View.Filters), Columns: List(f.View.Columns)}
+	return f
+}
+
+// Answer copies an answer.
+func Answer(a api.Answer) api.Answer {
+	return api.Answer{
+		Hits:       Each(a.Hits, Hit),
+		Matches:    Each(a.Matches, match),
+		Correlated: Each(a.Correlated, correlated),
+		Routes:     Each(a.Routes, route),
+		Found:      Each(a.Found, found),
+	}
+}
