@@ -100,3 +100,17 @@ func Answer(a api.Answer) api.Answer {
 		Found:      Each(a.Found, found),
 	}
 }
+
+// Store copies a store.
+func Store(s api.Store) api.Store {
+	return api.Store{Collection: Collection(s.Collection), Index: Segments(s.Index), Rules: List(s.Rules)}
+}
+
+// Plant copies a plant.
+func Plant(p api.Plant) api.Plant {
+	return api.Plant{
+		Now:     Store(p.Now),
+		Durable: Store(p.Durable),
+		Log:     Each(p.Log, func(s api.Saw) api.Saw { return api.Saw{Kind: s.Kind, Code: s.Code, Answer: Answer(s.Answer)} }),
+	}
+}
