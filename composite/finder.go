@@ -66,28 +66,51 @@ func (f finder) search(t api.Table) []counted {
 	may := func(place, column int) bool {
 		return slices.ContainsFunc(cells[place][column], func(n int) bool { return n >= 0 })
 	}
+	var all []candidate
+	for row := range table.Rows(t) {
+		all = append(all, candidate{row: row})
+	}
 	var l []counted
+	// Choices that follow each other mostly begin alike: what is left of the rows for that is kept.
+	var last []int
+	left := [api.MaxKey + 1][]candidate{all}
 	for columns := range choices(len(t.Columns), f.places, may) {
-		var chosen [api.MaxKey][]int
 		for place, j := range columns {
-			chosen[place] = cells[place][j]
+			if last == nil || !slices.Equal(last[:place+1], columns[:place+1]) {
+				left[place+1] = narrowed(left[place], place, cells[place][j])
+			}
 		}
-		if n := f.count(chosen, table.Rows(t)); n > 0 {
+		last = columns
+		if n := f.count(left[f.places]); n > 0 {
 			l = append(l, counted{table: t.ID, columns: columns, tuples: n})
 		}
 	}
 	return l
 }
 
-// count returns how many tuples of the query are in rows.
-func (f finder) count(chosen [api.MaxKey][]int, rows int) int {
-	found := map[int]bool{}
-	for row := range rows {
-		var key [api.MaxKey]int
-		for place := range f.places {
-			key[place] = chosen[place][row]
+// candidate is a row with the numbers of its texts for some columns.
+type candidate struct {
+	row int
+	key [api.MaxKey]int
+}
+
+// narrowed returns the rows that have a text of a place in a column, too.
+func narrowed(rows []candidate, place int, cells []int) []candidate {
+	var l []candidate
+	for _, c := range rows {
+		if n := cells[c.row]; n >= 0 {
+			c.key[place] = n
+			l = append(l, c)
 		}
-		if i, ok := f.tuples[key]; ok {
+	}
+	return l
+}
+
+// count returns how many tuples of the query rows have.
+func (f finder) count(rows []candidate) int {
+	found := map[int]bool{}
+	for _, c := range rows {
+		if i, ok := f.tuples[c.key]; ok {
 			found[i] = true
 		}
 	}
