@@ -6,29 +6,15 @@ import (
 	"tablefinder/api"
 	"tablefinder/clone"
 	"tablefinder/join"
+	"tablefinder/passed"
 	"tablefinder/view"
 )
-
-// passed returns the tables of a list that a path passes.
-func passed(l []api.Table, p api.Path) []api.Table {
-	ids := map[int]bool{p.Start: true}
-	for _, s := range p.Steps {
-		ids[s.To.Table] = true
-	}
-	var tables []api.Table
-	for _, t := range l {
-		if ids[t.ID] {
-			tables = append(tables, t)
-		}
-	}
-	return tables
-}
 
 // counted returns paths with their numbers of rows, in the order of answers, without those of too many rows.
 func counted(l []api.Table, paths []api.Path) []api.Found {
 	var found []api.Found
 	for _, p := range paths {
-		if rows, e := join.Rows(passed(l, p), p); e == api.OK {
+		if rows, e := join.Rows(passed.Tables(l, p), p); e == api.OK {
 			found = append(found, api.Found{View: api.View{Path: p}, Rows: len(rows)})
 		}
 	}
@@ -55,7 +41,7 @@ func newFinder(l []api.Table, f api.Found, q api.Table) finder {
 		places[s.To.Table] = i + 1
 		x.last = s.To.Table
 	}
-	tables := passed(l, p)
+	tables := passed.Tables(l, p)
 	rows, _ := join.Rows(tables, p)
 	texts := map[string]bool{}
 	for _, t := range tables {

@@ -6,6 +6,7 @@ import (
 	"slices"
 
 	"tablefinder/api"
+	"tablefinder/rowkey"
 	"tablefinder/table"
 )
 
@@ -23,7 +24,7 @@ func newFinder(a, b api.Table, columns []int) (finder, bool) {
 	f := finder{from: a, ranks: map[int][]int{}}
 	places := map[string]int{}
 	var first []int
-	for i, key := range keys(a, columns) {
+	for i, key := range rowkey.All(a, columns) {
 		n, ok := places[key]
 		if !ok {
 			n = len(places)
@@ -32,7 +33,7 @@ func newFinder(a, b api.Table, columns []int) (finder, bool) {
 		}
 		f.rows = append(f.rows, n)
 	}
-	for _, key := range keys(b, numbers(len(b.Columns))) {
+	for _, key := range rowkey.All(b, numbers(len(b.Columns))) {
 		n, ok := places[key]
 		if !ok {
 			return finder{}, false

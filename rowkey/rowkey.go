@@ -22,3 +22,19 @@ func Of(row []api.Cell) string {
 	}
 	return b.String()
 }
+
+// All returns the key of each row of a table, with some of its columns, in an order.
+func All(t api.Table, columns []int) []string {
+	if len(t.Columns) == 0 {
+		return nil
+	}
+	var keys []string
+	row := make([]api.Cell, len(columns))
+	for i := range t.Columns[0].Cells {
+		for n, j := range columns {
+			row[n] = t.Columns[j].Cells[i]
+		}
+		keys = append(keys, Of(row))
+	}
+	return keys
+}

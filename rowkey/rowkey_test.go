@@ -17,3 +17,21 @@ func TestOf(t *testing.T) {
 		taken[Of(row)] = true
 	}
 }
+
+func TestAll(t *testing.T) {
+	cells := func(s string) api.Column {
+		var c api.Column
+		for _, r := range s {
+			c.Cells = append(c.Cells, api.Cell{Text: string(r)})
+		}
+		return c
+	}
+	a := api.Table{Columns: []api.Column{cells("xxy"), cells("pqp"), cells("ppx")}}
+	l := All(a, []int{1, 0})
+	if len(l) != 3 || l[0] != Of([]api.Cell{{Text: "p"}, {Text: "x"}}) || l[0] == l[1] || l[2] != Of([]api.Cell{{Text: "p"}, {Text: "y"}}) {
+		t.Error(l)
+	}
+	if len(All(api.Table{}, nil)) != 0 || len(All(a, nil)) != 3 {
+		t.Error("no columns")
+	}
+}
