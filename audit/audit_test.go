@@ -193,3 +193,25 @@ func TestConsequences(t *testing.T) {
 	}
 	equal(t, "some", answered > 20, true)
 }
+
+// TestMemory checks that the parts of a plant, and plants that come from each other, share no memory.
+func TestMemory(t *testing.T) {
+	change := func(s *api.Store) {
+		s.Collection.Items[0].Table.Columns[0].Cells[0].Text, s.Index.List[0].Index.Values[0], s.Rules[0].User = "!", "!", "!"
+	}
+	p := Run(New(), []api.Event{put(tab(1, "a x")), rule(true, 0, -1), event(api.EvSave, 0, 0), event(api.EvCrash, 0, 0)})
+	before := clone.Plant(p)
+	change(&p.Now)
+	equal(t, "crash", p.Durable, before.Durable)
+	p = clone.Plant(before)
+	q := Run(p, nil)
+	change(&q.Now)
+	change(&q.Durable)
+	equal(t, "run", p, before)
+	s := clone.Store(before.Now)
+	s.Index.List[0].Index.Lists[0] = nil
+	equal(t, "lists", Check(s), false)
+	other := clone.Store(before.Now)
+	other.Index, _ = segment.Add(api.Segments{}, []api.Table{tab(1, "a y")})
+	equal(t, "values", Check(other), false)
+}

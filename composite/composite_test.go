@@ -164,3 +164,8 @@ func TestP22_3(t *testing.T) {
 		}
 	}
 }
+
+func TestNoQueries(t *testing.T) {
+	no, q := [][]string{{"a"}, {"a"}}, query("a")
+	equal(t, "common", list(Common(no, q), Common(q, no)), list(0, 0))
+}

@@ -195,3 +195,16 @@ func TestConsequences(t *testing.T) {
 	}
 	equal(t, "order", overlap.Less(api.Hit{Score: frac(1, 2)}, api.Hit{Score: frac(1, 3)}), true)
 }
+
+// TestInvalid has one argument that is not valid, and others that are.
+func TestInvalid(t *testing.T) {
+	x, q, half := index("ab"), []string{"a", "b"}, frac(1, 2)
+	hits, c, _ := Top(1, x, q, 1)
+	bad := index("ab")
+	bad.Entries[0].Size = 3
+	twice := []string{"a", "a"}
+	_, _, e := Least(1, bad, q, half)
+	_, _, f := Least(1, x, twice, half)
+	equal(t, "least", list(e, f), list(1, 1))
+	equal(t, "checks", list(Check(1, bad, q, 1, hits, c), Check(1, x, []string{"b", "a"}, 0, nil, c), CheckLeast(1, bad, q, half, hits, c), CheckLeast(1, x, []string{"b", "a"}, half, nil, api.Certificate{}), CheckLeast(1, x, []string{"y", "x"}, half, nil, c)), list(false, false, false, false, false))
+}

@@ -181,3 +181,9 @@ func TestP25_4(t *testing.T) {
 		equal(t, "top", got, want[:min(4, len(want))])
 	}
 }
+
+func TestMost(t *testing.T) {
+	many := api.Column{Cells: make([]api.Cell, api.MaxRows)}
+	_, e := Top(nil, many, many, 1)
+	equal(t, "rows", e, api.OK)
+}

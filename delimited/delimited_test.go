@@ -129,3 +129,9 @@ func TestParseOfFormat(t *testing.T) {
 		}
 	}
 }
+
+func TestMost(t *testing.T) {
+	data := strings.Repeat(strings.Repeat("a", 1023)+"\n", 1024)
+	g, e := Parse(plainComma, data)
+	equal(t, "bytes", list(len(data), len(g.Rows), e), list(api.MaxFile, 1024, api.OK))
+}

@@ -75,7 +75,7 @@ func TestP37_2(t *testing.T) {
 		a, b api.Table
 		key  int
 		e    api.Errno
-	}{{wrong, a, 9, 1}, {a, wrong, 9, 1}, {a, other, 9, 1}, {a, tab(1, "a"), 0, 1}, {a, b, 2, 2}, {a, b, -1, 2}, {a, b, 1, 20}, {b, a, 1, 20}, {tab(1, "a a"), tab(1, "a"), 0, 20}, {tab(1, "a"), tab(1, "a a"), 0, 20}} {
+	}{{wrong, tab(1, "a"), 9, 1}, {tab(1, "a"), wrong, 9, 1}, {a, other, 9, 1}, {a, tab(1, "a"), 0, 1}, {a, b, 2, 2}, {a, b, -1, 2}, {a, b, 1, 20}, {b, a, 1, 20}, {tab(1, "a a"), tab(1, "a"), 0, 20}, {tab(1, "a"), tab(1, "a a"), 0, 20}} {
 		d, e := Of(x.a, x.b, x.key)
 		equal(t, fmt.Sprint(i), list(d, e), list(api.Delta{}, x.e))
 	}

@@ -140,3 +140,14 @@ func TestConsequences(t *testing.T) {
 		}
 	}
 }
+
+func TestMost(t *testing.T) {
+	long := strings.Repeat("a", api.MaxText)
+	data := strings.Repeat(long[1:]+"\n", 1024)
+	g, e := Parse([]int{0}, data)
+	l, ok := Infer(data, 1)
+	s, f := Format([]int{0}, api.Grid{Rows: [][]string{{long}}})
+	equal(t, "bytes", list(len(data), len(g.Rows), e, l, ok, s, f), list(api.MaxFile, 1024, api.OK, []int{0}, true, long+"\n", api.OK))
+	wide, f := Format([]int{0, api.MaxFile}, api.Grid{Rows: [][]string{{long, "b"}, {long, "b"}}})
+	equal(t, "places", list(wide, f), list("", api.ErrLimit))
+}

@@ -204,3 +204,12 @@ func TestRule1(t *testing.T) {
 		t.Error("an argument was changed")
 	}
 }
+
+func TestMost(t *testing.T) {
+	top := power(32*256 - 1)
+	a, e := AddBig(top, FromInt(1))
+	equal(t, "words", list(len(a.Words), e), list(256, 0))
+	f, ok := Decimal("-999999999999999.999999999")
+	equal(t, "digits", list(Text(f), ok), list("-999999999999999999999999/1000000000", true))
+	equal(t, "all of several", list(validAll(of(1, 1), api.Fraction{}), validAll(of(1, 2), of(1, 3))), list(false, true))
+}

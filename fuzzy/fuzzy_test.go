@@ -174,3 +174,12 @@ func TestP21_2(t *testing.T) {
 
 // Same reports whether the example's index is unchanged.
 func Same(x api.Index) bool { return posting.Same(x, index("bat rat", "dog", "cat")) }
+
+func TestNoSets(t *testing.T) {
+	set, no := []string{"a", "b"}, []string{"b", "a"}
+	for _, x := range [][2][]string{{set, no}, {no, set}} {
+		equal(t, "no set", list(Matches(same, x[0], x[1]), Covered(edit, x[0], x[1]), Pairing(edit, x[0], x[1])), list([][2]int{}, 0, [][2]int{}))
+	}
+	hits, e := Top(same, index("a"), set, 0)
+	equal(t, "k", list(hits, e), list([]api.Hit{}, 0))
+}

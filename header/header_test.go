@@ -123,3 +123,9 @@ func TestConsequences(t *testing.T) {
 		equal(t, "different names", len(taken), 5)
 	}
 }
+
+func TestMost(t *testing.T) {
+	a, e := Apply(0, "", grid("a", "b", "c", "1"), 3)
+	equal(t, "header rows", list(a.Columns, e), list([]api.Column{{Name: "a b c", Cells: []api.Cell{{Text: "1"}}}}, 0))
+	equal(t, "digits", list(Number("0-1"), Number("9-1"), Number("/1"), Number(":1")), list(true, true, false, false))
+}

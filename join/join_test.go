@@ -165,3 +165,9 @@ func TestLimits(t *testing.T) {
 	_, f = Rows(wide, path(1, step4(1, 0, 2, 0)))
 	equal(t, "columns", list(e, f), list(3, 0))
 }
+
+func TestMostColumns(t *testing.T) {
+	l := []api.Table{{ID: 1, Columns: make([]api.Column, 40)}, {ID: 2, Columns: make([]api.Column, 24)}}
+	j, e := Path(l, path(1, step4(1, 0, 2, 0)))
+	equal(t, "columns", list(len(j.Columns), e), list(64, 0))
+}

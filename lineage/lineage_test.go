@@ -127,3 +127,8 @@ func TestAll(t *testing.T) {
 		}
 	}
 }
+
+func TestMissing(t *testing.T) {
+	none := []api.Op{{Kind: api.OpProject}}
+	equal(t, "missing", list(Check([]api.Table{tab(5, "a x")}, []api.Link{{From: 5, To: 9, Ops: none}}), Check([]api.Table{tab(5)}, []api.Link{{From: -9, To: 5}})), list(false, false))
+}

@@ -201,3 +201,35 @@ func TestConsequences(t *testing.T) {
 		}
 	}
 }
+
+func TestMost(t *testing.T) {
+	n, e := Parse(`"a b"`)
+	equal(t, "space", list(n, Valid(n), e), list(word("a b"), true, 0))
+	for _, s := range []string{"{1}", `{"a":1,2}`, "\"a\x01", "[1,\"a\x1f\"]"} {
+		_, e := Parse(s)
+		equal(t, s, e, api.ErrFormat)
+	}
+	rows := "1" + strings.Repeat(",2", api.MaxRows-1)
+	records := "{}" + strings.Repeat(",{}", api.MaxRows-1)
+	columns := `"0":1`
+	for i := range 63 {
+		columns += fmt.Sprintf(`,"%d":1`, i+1)
+	}
+	for _, s := range []string{`{"a":[` + rows + "]}", "[" + records + "]", `{"a":[` + records + "]}", "{" + columns + "}"} {
+		l, e := Flatten("", 0, parsed(s))
+		equal(t, s[:9], list(table.ValidList(l), e), list(true, 0))
+	}
+	l, e := Flatten("", api.MaxID, parsed(`{"a":1}`))
+	equal(t, "ID", list(len(l), e), list(1, 0))
+	many := nodes()
+	for range 1023 {
+		many.Kids = append(many.Kids, word(long[:1021]))
+	}
+	last := api.MaxFile - 2 - 1023*1024 - 2
+	many.Kids = append(many.Kids, word(long[:last]))
+	s, e := Format(many)
+	equal(t, "bytes", list(len(s), e), list(api.MaxFile, 0))
+	many.Kids[1023].Text += "x"
+	_, e = Format(many)
+	equal(t, "one more", e, api.ErrLimit)
+}

@@ -155,3 +155,13 @@ func TestConsequences(t *testing.T) {
 		equal(t, "entries", list(Entries(want), text.IsSet(want.Values), slices.IsSorted(want.Values)), list(sum, true, true))
 	}
 }
+
+func TestMore(t *testing.T) {
+	m, e := Merge(example(), changed(func(x *api.Index) { x.Entries[1].Ref.Table = 3 }))
+	equal(t, "the first column in both", list(m, e), list(New(), api.ErrExists))
+	twice := changed(func(x *api.Index) {
+		x.Lists[1] = []int{0, 0, 1}
+		x.Entries[0].Size = 3
+	})
+	equal(t, "twice in a list", Valid(twice), false)
+}

@@ -161,3 +161,8 @@ func all(l []api.Table, edges []api.Relation, from, to, steps int) []api.Path {
 	slices.SortFunc(found, order.Paths)
 	return slices.CompactFunc(found, func(a, b api.Path) bool { return order.Paths(a, b) == 0 })
 }
+
+func TestMost(t *testing.T) {
+	l, e := Top(tables, []api.Relation{edge(1, 0, 2, 0)}, 1, 2, 1, api.MaxK)
+	equal(t, "k", list(len(l), e), list(1, 0))
+}

@@ -162,3 +162,9 @@ func TestP43_2(t *testing.T) {
 	}
 	equal(t, "some", some > 300, true)
 }
+
+func TestMost(t *testing.T) {
+	eight, three := wide, wide
+	eight.Columns, three.Columns = wide.Columns[:8], wide.Columns[:3]
+	equal(t, "columns", list(Valid(api.Query{Kind: api.AskUnion, Table: eight}), Valid(api.Query{Kind: api.AskExample, Table: three})), list(0, 0))
+}

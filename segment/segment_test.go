@@ -183,3 +183,14 @@ func TestConsequences(t *testing.T) {
 		}
 	}
 }
+
+func TestMore(t *testing.T) {
+	x := example()
+	Remove(x, 1)
+	equal(t, "argument", x, example())
+	_, e := Make([]api.Table{tab(api.MaxID, "a")})
+	equal(t, "greatest ID", list(e, Valid(add([]api.Table{tab(api.MaxID, "a")}))), list(0, true))
+	y := add([]api.Table{tab(1, "x"), tab(2, "x")})
+	y, _ = Remove(y, 1)
+	equal(t, "behind one that is gone", Lookup(y, "x"), []api.Ref{ref(2, 0)})
+}

@@ -121,3 +121,9 @@ func TestConsequences(t *testing.T) {
 		}
 	}
 }
+
+func TestEmptyRegions(t *testing.T) {
+	_, e := Cut(grid("ab"), region(0, 1, 1, 1))
+	_, ok := Parse("0,1,1,1")
+	equal(t, "no columns", list(e, ok), list(api.ErrInvalid, false))
+}

@@ -57,3 +57,7 @@ func TestP26_3(t *testing.T) {
 		equal(t, fmt.Sprint(x), list(fraction.Text(Of(x.a, x.b)), fraction.Text(Of(x.b, x.a))), list(x.want, x.want))
 	}
 }
+
+func TestNullFirst(t *testing.T) {
+	equal(t, "share", fraction.Text(Share(column("", "_ 1 x"))), "1/2")
+}

@@ -140,3 +140,9 @@ func TestConsequences(t *testing.T) {
 	}
 	equal(t, "some", complete > 500, true)
 }
+
+func TestMost(t *testing.T) {
+	many := api.Column{Cells: make([]api.Cell, api.MaxRows)}
+	s, e := Make(many, many, api.MaxSketch)
+	equal(t, "most", list(e, Valid(s)), list(0, true))
+}

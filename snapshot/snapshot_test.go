@@ -129,3 +129,10 @@ func TestConsequences(t *testing.T) {
 		}
 	}
 }
+
+func TestArgument(t *testing.T) {
+	given := tab(1, "a")
+	x, _ := Put(api.Collection{}, given)
+	x.Items[0].Table.Columns[0].Cells[0].Text = "!"
+	equal(t, "put", given, tab(1, "a"))
+}

@@ -110,3 +110,8 @@ func TestConsequence(t *testing.T) {
 		equal(t, s, list(best.Delimiter, back, e), list(d.Delimiter, g, api.OK))
 	}
 }
+
+func TestMostFields(t *testing.T) {
+	c, ok := Candidate(Dialects()[0], strings.Repeat(",", 63))
+	equal(t, "fields", list(c.Width, ok), list(64, true))
+}

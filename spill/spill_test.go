@@ -177,3 +177,8 @@ func TestConsequences(t *testing.T) {
 		equal(t, "Sort is New, Push and Finish", same, plain)
 	}
 }
+
+func TestTwoRuns(t *testing.T) {
+	m, e := Merge(api.Spill{Memory: 2, Runs: [][]api.Count{run("b1"), run("a2")}, Written: 2})
+	equal(t, "merge", list(m, e), list(api.Spill{Memory: 2, Runs: [][]api.Count{run("a2", "b1")}, Peak: 2, Written: 4}, 0))
+}

@@ -144,3 +144,11 @@ func TestP3_3(t *testing.T) {
 		equal(t, fmt.Sprint("invalid ", i), list(SameRows(x, x), Same(x, x)), list(false, true))
 	}
 }
+
+func TestMore(t *testing.T) {
+	a := tab(1, "a b")
+	c, ok := Get([]api.Table{a}, api.Ref{Table: 1})
+	equal(t, "first column", list(c, ok), list(a.Columns[0], true))
+	b := tab(-1, "a b")
+	equal(t, "one is not valid", list(SameRows(a, b), SameRows(b, a)), list(false, false))
+}

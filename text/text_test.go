@@ -59,3 +59,8 @@ func TestConsequences(t *testing.T) {
 		t.Error("points")
 	}
 }
+
+func TestClasses(t *testing.T) {
+	equal(t, "pattern", list(Pattern("/0:9"), Pattern("@A[Z"), Pattern("`a{z"), Pattern("\x7f\u0080")), list("/9:9", "@A[A", "`a{a", "\x7fu"))
+	equal(t, "tokens", list(Tokens("/0:9"), Tokens("@A[Z"), Tokens("`a{z"), Tokens("\x7f\x80")), list([]string{"0", "9"}, []string{"a", "z"}, []string{"a", "z"}, []string{"\x80"}))
+}

@@ -146,3 +146,11 @@ func TestConsequences(t *testing.T) {
 		}
 	}
 }
+
+func TestNoDates(t *testing.T) {
+	for _, s := range []string{"20a4-01-02", "2024-0a-02", "01.02-2024", "01-02.2024", "2024-01/02", "2024.01.02", "1.02.20241"} {
+		c, ok := Canonical(api.TypeDate, s)
+		_, good := Value(api.TypeDate, s)
+		equal(t, s, list(c, ok, good), list("", false, false))
+	}
+}

@@ -106,3 +106,14 @@ func TestP28_3(t *testing.T) {
 		equal(t, fmt.Sprint(i), list(got, e), list([]api.Match{}, x.e))
 	}
 }
+
+func TestMore(t *testing.T) {
+	a, b := tab(1, "a 1", "b x"), tab(2, "c 3", "d p")
+	s, _ := Stack(a, b, []int{0, 1})
+	equal(t, "stack", s, tab(1, "a 1 3", "b x p"))
+	eight := wide
+	eight.Columns = wide.Columns[:8]
+	_, _, e := Align(eight, eight)
+	_, f := Top(nil, eight, 1)
+	equal(t, "most columns", list(e, f), list(0, 0))
+}

@@ -92,3 +92,9 @@ func TestConsequence(t *testing.T) {
 	a, _ := Apply(column("1 h,60 min,3600 s,3600000ms"), "s")
 	equal(t, "the same quantity", a, column("3600,3600,3600,3600"))
 }
+
+func TestFirst(t *testing.T) {
+	number, u, ok := Split("5 kg")
+	equal(t, "kg", list(number, u.Name, ok), list("5", "kg", true))
+	equal(t, "take", Take(Options(column("1 kg,5 g"))), "kg")
+}

@@ -143,3 +143,16 @@ func TestConsequences(t *testing.T) {
 		equal(t, "exchanged", a, b)
 	}
 }
+
+func TestLaterTables(t *testing.T) {
+	v := api.View{Path: api.Path{Start: 2}, Columns: []api.Ref{ref(2, 1)}}
+	a, e := Evaluate(tables, v)
+	equal(t, "path without the first table", list(a.Name, len(a.Columns), e), list("t2", 1, 0))
+	v = api.View{Path: api.Path{Start: 3}, Columns: []api.Ref{ref(3, 0), ref(2, 0)}}
+	equal(t, "not of the path", Valid(tables, v), api.ErrMissing)
+	many := make([]api.Ref, api.MaxColumns)
+	for i := range many {
+		many[i] = ref(3, 0)
+	}
+	equal(t, "most columns", Valid(tables, api.View{Path: api.Path{Start: 3}, Columns: many}), api.OK)
+}
