@@ -166,3 +166,15 @@ func TestMost(t *testing.T) {
 	l, e := Top(tables, []api.Relation{edge(1, 0, 2, 0)}, 1, 2, 1, api.MaxK)
 	equal(t, "k", list(len(l), e), list(1, 0))
 }
+
+// TestLongest has routes of the most steps that only differ in their last one.
+func TestLongest(t *testing.T) {
+	l := []api.Table{tab(1, "a"), tab(2, "a"), tab(3, "a"), tab(4, "a"), tab(5, "a", "b", "c")}
+	edges := []api.Relation{edge(1, 0, 2, 0), edge(2, 0, 3, 0), edge(3, 0, 4, 0), edge(4, 0, 5, 0), edge(4, 0, 5, 1), edge(4, 0, 5, 2)}
+	var want []api.Path
+	for column := range 3 {
+		want = append(want, api.Path{Start: 1, Steps: []api.Step{to(1, 0, 2, 0), to(2, 0, 3, 0), to(3, 0, 4, 0), to(4, 0, 5, column)}})
+	}
+	got, e := Paths(l, edges, 1, 5, 4)
+	equal(t, "longest", list(got, e), list(want, 0))
+}

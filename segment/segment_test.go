@@ -194,3 +194,10 @@ func TestMore(t *testing.T) {
 	y, _ = Remove(y, 1)
 	equal(t, "behind one that is gone", Lookup(y, "x"), []api.Ref{ref(2, 0)})
 }
+
+func TestAddArgument(t *testing.T) {
+	x := example()
+	y, _ := Add(x, nil)
+	y.List[0].Tables[0], y.List[0].Index.Entries[0].Size = 9, 9
+	equal(t, "argument", x, example())
+}
