@@ -115,3 +115,22 @@ func TestMostFields(t *testing.T) {
 	c, ok := Candidate(Dialects()[0], strings.Repeat(",", 63))
 	equal(t, "fields", list(c.Width, ok), list(64, true))
 }
+
+// answers returns what the functions that look for known dialects say, except Dialects.
+func answers() []any {
+	d, data := api.Dialect{Delimiter: '|', Trim: true}, "a;b\n1,5;2\n"
+	name, ok := Name(d)
+	back, found := Named("bar none trim")
+	best, e := Guess(data)
+	return list(name, ok, back, found, Better(api.Candidate{Dialect: d}, api.Candidate{}), Candidates(data), best, e)
+}
+
+// TestKnown empties what has been made at start-up: only Dialects may read it.
+func TestKnown(t *testing.T) {
+	equal(t, "made at start-up", known, makeKnown())
+	l, before := Dialects(), answers()
+	defer func(old [24]words) { known = old }(known)
+	known = [24]words{}
+	equal(t, "the others do not read it", answers(), before)
+	equal(t, "Dialects reads it", list(len(l), Dialects()), list(24, make([]api.Dialect, 24)))
+}
